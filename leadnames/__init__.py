@@ -1,0 +1,1 @@
+"""Leadnames: a house of files in which names lead on."""

@@ -1,0 +1,174 @@
+"""Holds the package to the rules of ../shared/LANGUAGE.md that a plain reading of the code can see."""
+
+import ast
+import builtins
+import pathlib
+import re
+import unittest
+
+PACKAGE = pathlib.Path(__file__).resolve().parent.parent / "leadnames"
+
+OWN_NAMES = set("""len range enumerate zip min max sum abs sorted reversed int str bool list tuple dict set frozenset
+isinstance ord repr any all divmod Exception ValueError TypeError KeyError IndexError LookupError ZeroDivisionError
+ArithmeticError OverflowError RuntimeError NotImplementedError AttributeError StopIteration""".split())
+
+OWN_METHODS = set("""append clear copy count endswith extend find get index insert isalnum isalpha isdigit islower
+isspace isupper items join keys ljust lower lstrip partition pop remove replace reverse rfind rjust rpartition rsplit
+rstrip setdefault split splitlines startswith strip update upper values zfill bit_length""".split())
+
+TWO_UNDERSCORES = ("__init__", "__eq__", "__repr__", "__str__", "__len__")
+
+FORBIDDEN_WORDS = """type typing typing_extensions enum Enum IntEnum StrEnum Flag IntFlag Generic Protocol ABC ABCMeta
+namedtuple NamedTuple TypedDict TYPE_CHECKING abstractmethod""".split()
+
+FORBIDDEN_NAMES = set("register mro elements open input version_info with_traceback add_note format format_map".split())
+
+FORBIDDEN_NODES = (
+    ast.With, ast.Match, ast.Delete, ast.Global, ast.Nonlocal, ast.Assert, ast.Yield, ast.YieldFrom, ast.Await,
+    ast.AsyncFor, ast.AsyncWith, ast.AsyncFunctionDef, ast.SetComp, ast.DictComp, ast.GeneratorExp, ast.NamedExpr,
+    ast.Starred, ast.Div, ast.MatMult, ast.Import,
+)
+
+
+def package_files():
+    return sorted(path for path in PACKAGE.rglob("*") if path.is_file() and "__pycache__" not in path.parts)
+
+
+def source_of(path):
+    return path.read_text(encoding="utf-8")
+
+
+def trees():
+    return [(path, ast.parse(source_of(path))) for path in package_files()]
+
+
+def all_nodes():
+    return [(path, node) for path, tree in trees() for node in ast.walk(tree)]
+
+
+def top_names(tree):
+    names = [node.name for node in tree.body if isinstance(node, (ast.FunctionDef, ast.ClassDef))]
+    assigned = [node for node in tree.body if isinstance(node, ast.Assign)]
+    return names + [target.id for node in assigned for target in node.targets]
+
+
+def methods_and_values():
+    methods, values = set(), set()
+    for path, node in all_nodes():
+        if isinstance(node, ast.ClassDef):
+            methods.update(part.name for part in node.body if isinstance(part, ast.FunctionDef))
+        if isinstance(node, ast.Attribute) and isinstance(node.ctx, ast.Store):
+            values.add(node.attr)
+    return methods, values
+
+
+def bound_names(node):
+    if isinstance(node, (ast.FunctionDef, ast.ClassDef)):
+        return [node.name]
+    if isinstance(node, ast.arg):
+        return [node.arg]
+    if isinstance(node, ast.Name) and isinstance(node.ctx, ast.Store):
+        return [node.id]
+    if isinstance(node, ast.Attribute) and isinstance(node.ctx, ast.Store):
+        return [node.attr]
+    return []
+
+
+class Language(unittest.TestCase):
+
+    def where(self, path, node, rule):
+        return f"{rule}: {path.name}:{getattr(node, 'lineno', '?')}"
+
+    def test_files(self):
+        self.assertIn(PACKAGE / "__init__.py", package_files())
+        for path in package_files():
+            self.assertRegex(path.name, r"^[a-z0-9_]+\.py$")
+            self.assertNotRegex(path.stem, r"^(test.*|site|conftest|sitecustomize|usercustomize)$")
+            self.assertNotIn(path.stem, vars(builtins), path)
+
+    def test_signs_and_sizes(self):
+        for path in package_files():
+            source = source_of(path)
+            self.assertTrue(all(sign == "\n" or " " <= sign <= "~" for sign in source), path)
+            rows = source.splitlines()
+            self.assertLessEqual(len(rows), 400, path)
+            self.assertLessEqual(max([len(row) for row in rows], default=0), 120, path)
+        for path, node in all_nodes():
+            if isinstance(node, ast.FunctionDef):
+                self.assertLessEqual(node.end_lineno - node.lineno + 1, 40, self.where(path, node, "L10"))
+
+    def test_words_that_stand_nowhere(self):
+        whole = re.compile(r"\b(" + "|".join(FORBIDDEN_WORDS) + r")\b|dataclass|overload|contextmanager")
+        for path in package_files():
+            self.assertIsNone(whole.search(source_of(path)), path)
+
+    def test_nodes(self):
+        for path, node in all_nodes():
+            self.assertNotIsInstance(node, FORBIDDEN_NODES, self.where(path, node, "L6, L7"))
+            if isinstance(node, ast.Constant):
+                self.assertNotIsInstance(node.value, (float, complex, bytes), self.where(path, node, "L7"))
+                self.assertFalse(isinstance(node.value, str) and "%" in node.value, self.where(path, node, "L27"))
+            if isinstance(node, (ast.For, ast.While)):
+                self.assertEqual(node.orelse, [], self.where(path, node, "L6"))
+            if isinstance(node, ast.Try):
+                self.assertEqual(node.finalbody, [], self.where(path, node, "L6"))
+            if isinstance(node, ast.Assign):
+                self.assertEqual(len(node.targets), 1, self.where(path, node, "L6"))
+            if isinstance(node, (ast.FunctionDef, ast.ClassDef)):
+                self.assertEqual(node.decorator_list, [], self.where(path, node, "L4, L5"))
+
+    def test_parameters_are_plain(self):
+        for path, node in all_nodes():
+            if isinstance(node, ast.arguments):
+                self.assertEqual((node.vararg, node.kwarg, node.kwonlyargs, node.posonlyargs), (None, None, [], []))
+
+    def test_imports(self):
+        defined = {"leadnames." + path.stem: top_names(tree) for path, tree in trees()}
+        drawn = {module: [] for module in defined}
+        for path, node in all_nodes():
+            if isinstance(node, ast.ImportFrom):
+                self.assertEqual(node.level, 0, self.where(path, node, "L2"))
+                for alias in node.names:
+                    self.assertIn(alias.name, defined.get(node.module, []), self.where(path, node, "L16"))
+                drawn["leadnames." + path.stem].append(node.module)
+        left = dict(drawn)
+        while left:
+            free = [module for module in left if not any(other in left for other in left[module])]
+            self.assertNotEqual(free, [], "L16: a ring of imports")
+            left = {module: left[module] for module in left if module not in free}
+
+    def test_names(self):
+        for path, node in all_nodes():
+            for name in bound_names(node):
+                if name not in TWO_UNDERSCORES:
+                    self.assertRegex(name, r"^[A-Za-z][A-Za-z0-9_]*$", self.where(path, node, "L12"))
+                self.assertNotIn(name, FORBIDDEN_NAMES, self.where(path, node, "L17"))
+                if not isinstance(node, (ast.Attribute, ast.FunctionDef)):
+                    self.assertNotIn(name, vars(builtins), self.where(path, node, "L15"))
+            if isinstance(node, ast.Name) and isinstance(node.ctx, ast.Load) and node.id in vars(builtins):
+                self.assertIn(node.id, OWN_NAMES, self.where(path, node, "L8"))
+
+    def test_each_top_name_once(self):
+        for path, tree in trees():
+            self.assertEqual(len(top_names(tree)), len(set(top_names(tree))), path)
+            self.assertEqual([name for name in top_names(tree) if name in vars(builtins)], [], path)
+
+    def test_methods_and_values(self):
+        methods, values = methods_and_values()
+        self.assertEqual(methods & values, set())
+        known = methods | values | OWN_METHODS | set(TWO_UNDERSCORES)
+        for path, node in all_nodes():
+            if isinstance(node, ast.Attribute):
+                self.assertIn(node.attr, known, self.where(path, node, "L25"))
+
+    def test_is(self):
+        for path, node in all_nodes():
+            if isinstance(node, ast.Compare):
+                for operator, right in zip(node.ops, node.comparators):
+                    if isinstance(operator, (ast.Is, ast.IsNot)):
+                        self.assertIsInstance(right, ast.Constant, self.where(path, node, "L20"))
+                        self.assertIn(right.value, (None, True, False), self.where(path, node, "L20"))
+
+
+if __name__ == "__main__":
+    unittest.main()
