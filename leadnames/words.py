@@ -4,6 +4,7 @@ from leadnames.errors import NoName, NoPath, NoRights, NoText
 
 LETTERS = "abcdefghijklmnopqrstuvwxyz"
 RIGHTS = ("", "l", "g", "w", "lg", "lw", "gw", "lgw")
+SINGLE_RIGHTS = ("l", "g", "w")
 DOTS = (".", "..")
 MOST_IN_NAME = 8
 MOST_IN_TEXT = 60
@@ -54,6 +55,11 @@ def check_name(text):
 def check_rights(text):
     if not is_rights(text):
         raise NoRights("rights are some of l, g and w, in this order")
+
+
+def check_one_right(text):
+    if not isinstance(text, str) or text not in SINGLE_RIGHTS:
+        raise NoRights("a right that is asked for is one of l, g and w")
 
 
 def check_text(text):

@@ -16,6 +16,8 @@ OWN_METHODS = set("""append clear copy count endswith extend find get index inse
 isspace isupper items join keys ljust lower lstrip partition pop remove replace reverse rfind rjust rpartition rsplit
 rstrip setdefault split splitlines startswith strip update upper values zfill bit_length""".split())
 
+FREE_VALUES = set("count index title find get join lower upper split strip copy add".split())
+
 TWO_UNDERSCORES = ("__init__", "__eq__", "__repr__", "__str__", "__len__")
 
 FORBIDDEN_WORDS = """type typing typing_extensions enum Enum IntEnum StrEnum Flag IntFlag Generic Protocol ABC ABCMeta
@@ -60,6 +62,14 @@ def methods_and_values():
         if isinstance(node, ast.Attribute) and isinstance(node.ctx, ast.Store):
             values.add(node.attr)
     return methods, values
+
+
+def imported_names(tree):
+    return [alias.name for node in tree.body if isinstance(node, ast.ImportFrom) for alias in node.names]
+
+
+def own_class_names(tree):
+    return [node.name for node in tree.body if isinstance(node, ast.ClassDef)]
 
 
 def bound_names(node):
@@ -160,6 +170,42 @@ class Language(unittest.TestCase):
         for path, node in all_nodes():
             if isinstance(node, ast.Attribute):
                 self.assertIn(node.attr, known, self.where(path, node, "L25"))
+
+    def test_methods_and_values_are_free_names(self):
+        taken = set()
+        for kind in (str, int, list, dict, set, bytes):
+            taken.update(name for name in dir(kind) if not name.startswith("_"))
+        methods, values = methods_and_values()
+        self.assertEqual(methods & (taken - OWN_METHODS - {"add", "discard"}), set())
+        self.assertEqual(values & (taken - FREE_VALUES), set())
+
+    def test_locals_are_not_called_like_classes_or_imports(self):
+        for path, tree in trees():
+            kept = imported_names(tree) + own_class_names(tree)
+            for node in ast.walk(tree):
+                if isinstance(node, ast.arg) or (isinstance(node, ast.Name) and isinstance(node.ctx, ast.Store)):
+                    for name in bound_names(node):
+                        self.assertNotIn(name, kept, self.where(path, node, "L15"))
+
+    def test_classes_hold_methods_alone_and_stand_at_the_top(self):
+        for path, tree in trees():
+            inner = [node for node in ast.walk(tree) if isinstance(node, ast.ClassDef)]
+            self.assertEqual(len(inner), len(own_class_names(tree)), path)
+            for node in inner:
+                self.assertLessEqual(len(node.bases), 1, self.where(path, node, "L5"))
+                names = [part.name for part in node.body if isinstance(part, ast.FunctionDef)]
+                self.assertEqual(len(names), len(set(names)), self.where(path, node, "L18"))
+                for part in node.body:
+                    self.assertIsInstance(part, (ast.FunctionDef, ast.Pass), self.where(path, node, "L5"))
+
+    def test_comprehensions_and_annotations(self):
+        for path, node in all_nodes():
+            if isinstance(node, ast.ListComp):
+                self.assertEqual(len(node.generators), 1, self.where(path, node, "L7"))
+                self.assertLessEqual(len(node.generators[0].ifs), 1, self.where(path, node, "L7"))
+            self.assertNotIsInstance(node, ast.AnnAssign, self.where(path, node, "L21"))
+            self.assertIsNone(getattr(node, "annotation", None), self.where(path, node, "L21"))
+            self.assertIsNone(getattr(node, "returns", None), self.where(path, node, "L21"))
 
     def test_is(self):
         for path, node in all_nodes():

@@ -3,7 +3,7 @@ import itertools
 import unittest
 
 from leadnames.errors import NoName, NoPath, NoRights, NoText
-from leadnames.words import check_lead, check_name, check_rights, check_text
+from leadnames.words import check_lead, check_name, check_one_right, check_rights, check_text
 from leadnames.words import is_name, is_rights, is_text, is_whole, parts_of
 
 EIGHT = ("", "l", "g", "w", "lg", "lw", "gw", "lgw")
@@ -105,6 +105,18 @@ class Rights(unittest.TestCase):
         for value in no_texts() + ["gl", "ll", "L", " "]:
             with self.subTest(value=value):
                 self.assertRaises(NoRights, check_rights, value)
+
+
+class OneRight(unittest.TestCase):
+
+    def test_each_of_the_three(self):
+        for text in "lgw":
+            self.assertIsNone(check_one_right(text))
+
+    def test_all_others(self):
+        for value in no_texts() + ["", "lg", "lw", "gw", "lgw", "gl", "L", "r", " ", "l ", "-"]:
+            with self.subTest(value=value):
+                self.assertRaises(NoRights, check_one_right, value)
 
 
 class Texts(unittest.TestCase):
