@@ -82,6 +82,12 @@ class House:
         check_one_right(right)
         return right in self.things.at(number).rights_for(asker)
 
+    def is_root(self, number):
+        return any([root == number for root in self.roots.values()])
+
+    def is_covered(self, number):
+        return number in self.root_over
+
     def check_asker(self, asker):
         # The kind is asked first: a list can't even be looked for in a dict.
         if not isinstance(asker, str) or asker not in self.roots:

@@ -66,6 +66,14 @@ class Things:
     def place_of(self, number):
         return min(self.at(number).places, default=None)
 
+    def put_rights(self, number, mine, rest):
+        thing = self.at(number)
+        thing.mine = mine
+        thing.rest = rest
+
+    def put_text(self, number, text):
+        self.at(number).text = text
+
     def put_name(self, folder, name, number):
         thing = self.at(number)
         self.drop_name(folder, name)

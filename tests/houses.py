@@ -1,5 +1,8 @@
-"""Houses for the tests, built straight upon the house's own parts, and pictures of them to compare."""
+"""Houses for the tests, pictures of them to compare, and what deeds answer."""
 
+import unittest
+
+from leadnames.errors import LeadError, NoDeed, NoWay
 from leadnames.house import House
 from leadnames.walks import Failed, Found, Ring
 
@@ -55,13 +58,59 @@ def nested_house():
 
 
 def picture(house):
-    """All that a house keeps, as one value."""
-    things = [(house.kind_of(number), house.owner_of(number), house.rights_of(number), house.text_of(number),
-               house.places_of(number), [(name, house.child(number, name)) for name in house.names_in(number)])
-              for number in range(house.many())]
-    askers = [(asker, house.root_of(asker), house.standing_of(asker)) for asker in house.askers()]
-    trees = [(tree, house.tree_root(tree), house.covered_by(tree)) for tree in house.trees()]
-    return (things, askers, trees)
+    """All that a house tells, under one key for each thing, asker and tree."""
+    told = {"many": house.many(), "askers": house.askers(), "trees": house.trees()}
+    for asker in house.askers():
+        told["root", asker] = house.root_of(asker)
+        told["standing", asker] = house.standing_of(asker)
+    for tree in house.trees():
+        told["tree", tree] = (house.tree_root(tree), house.covered_by(tree))
+    for number in range(house.many()):
+        told["thing", number] = (house.kind_of(number), house.owner_of(number), house.rights_of(number),
+                                 house.text_of(number))
+        told["places", number] = house.places_of(number)
+        told["names", number] = {name: house.child(number, name) for name in house.names_in(number)}
+    return told
+
+
+def changed(before, after):
+    """The keys under which two pictures differ, each with what the second one has there."""
+    return {key: after.get(key) for key in list(before) + list(after) if before.get(key) != after.get(key)}
+
+
+def outcome(deed, *handed, **named):
+    """What a deed tells, or by which class and with which field it refuses."""
+    try:
+        return ("told", deed(*handed, **named))
+    except NoDeed as refusal:
+        assert type(refusal) is NoDeed
+        return ("NoDeed", refusal.reason)
+    except NoWay as refusal:
+        assert type(refusal) is NoWay
+        return ("NoWay", shown(refusal.told))
+    except LeadError as refusal:
+        return type(refusal).__name__
+
+
+class HouseCase(unittest.TestCase):
+
+    def done(self, house, deed, *handed, **named):
+        """What a deed tells, and what it has changed."""
+        before = picture(house)
+        told = deed(house, *handed, **named)
+        return told, changed(before, picture(house))
+
+    def refused(self, house, refusal, deed, *handed, **named):
+        """Of a deed that it refuses so, and changes nothing."""
+        before = picture(house)
+        self.assertEqual(outcome(deed, house, *handed, **named), refusal, handed)
+        self.assertEqual(picture(house), before, handed)
+
+    def no_deed(self, house, reason, deed, *handed, **named):
+        self.refused(house, ("NoDeed", reason), deed, *handed, **named)
+
+    def no_way(self, house, told, deed, *handed, **named):
+        self.refused(house, ("NoWay", told), deed, *handed, **named)
 
 
 def shown(told):
