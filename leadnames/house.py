@@ -12,12 +12,17 @@ class House:
     def __init__(self, owner):
         check_name(owner)
         self.things = Things()
+        # As that of the things, for all that the house keeps beside them.
+        self.changes = 0
         self.roots = {}
         self.standings = {}
         self.tree_roots = {}
         # Every hanging stands in both, so that it is found from the folder and from the tree's root alike.
         self.root_over = {}
         self.folder_under = {}
+        # The holds that stand, by their numbers; given are these and those that were let go.
+        self.holds = {}
+        self.holds_given = 0
         self.first_root = self.add_tree(FIRST_TREE, owner)
         self.add_asker(owner)
 
@@ -83,10 +88,20 @@ class House:
         return right in self.things.at(number).rights_for(asker)
 
     def is_root(self, number):
-        return any([root == number for root in self.roots.values()])
+        return number in list(self.roots.values())
+
+    def is_standing(self, number):
+        return number in list(self.standings.values())
+
+    def is_tree_root(self, number):
+        return number in list(self.tree_roots.values())
 
     def is_covered(self, number):
         return number in self.root_over
+
+    def stamp(self):
+        # Another one behind each change, and never again one that was.
+        return (self.changes, self.things.changes)
 
     def check_asker(self, asker):
         # The kind is asked first: a list can't even be looked for in a dict.
@@ -107,21 +122,35 @@ class House:
         self.put_standing(name, self.first_root)
 
     def put_root(self, asker, folder):
+        self.changes += 1
         self.roots[asker] = folder
 
     def put_standing(self, asker, folder):
+        self.changes += 1
         self.standings[asker] = folder
 
     def add_tree(self, tree, owner):
         root = self.things.add_folder(owner, "lgw", "lg")
+        self.changes += 1
         self.tree_roots[tree] = root
         return root
 
     def hang_tree(self, tree, folder):
         root = self.tree_roots[tree]
+        self.changes += 1
         self.root_over[folder] = root
         self.folder_under[root] = folder
 
     def take_tree(self, tree):
+        self.changes += 1
         folder = self.folder_under.pop(self.tree_roots[tree])
         self.root_over.pop(folder)
+
+    def add_hold(self, held):
+        number = self.holds_given
+        self.holds_given += 1
+        self.holds[number] = held
+        return number
+
+    def drop_hold(self, number):
+        self.holds.pop(number)

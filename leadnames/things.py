@@ -31,8 +31,11 @@ class Things:
     def __init__(self):
         # Nothing is ever taken out, so a thing's number is its index.
         self.made = []
+        # Grows with each change, so that whoever keeps answers knows when they are old.
+        self.changes = 0
 
     def add_thing(self, kind, owner, mine, rest, text):
+        self.changes += 1
         number = len(self.made)
         self.made.append(Thing(number, kind, owner, mine, rest, text))
         return number
@@ -68,14 +71,18 @@ class Things:
 
     def put_rights(self, number, mine, rest):
         thing = self.at(number)
+        self.changes += 1
         thing.mine = mine
         thing.rest = rest
 
     def put_text(self, number, text):
-        self.at(number).text = text
+        thing = self.at(number)
+        self.changes += 1
+        thing.text = text
 
     def put_name(self, folder, name, number):
         thing = self.at(number)
+        self.changes += 1
         self.drop_name(folder, name)
         if thing.kind != FILE:
             # Only a file may stand at several places at once.
@@ -87,5 +94,6 @@ class Things:
     def drop_name(self, folder, name):
         number = self.child(folder, name)
         if number is not None:
+            self.changes += 1
             self.at(folder).names.pop(name)
             self.at(number).places.pop((folder, name))

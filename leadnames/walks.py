@@ -48,6 +48,7 @@ class Walk:
         self.left = []
         self.reading = []
         self.leads_read = 0
+        self.looked_up = 0
         self.told = None
 
     def begin(self, from_root, parts):
@@ -90,6 +91,7 @@ class Walk:
             self.here = top_of(self.house, self.house.place_of(stack[0])[0])
 
     def go_by(self, name):
+        self.looked_up += 1
         number = self.house.child(self.here, name)
         if number is None:
             self.fail("none")

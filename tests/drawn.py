@@ -4,6 +4,7 @@ import random
 
 from houses import file, folder, lead, new_house, outcome
 from leadnames.hanging import hang, make_tree, set_root, stand, take
+from leadnames.holding import hold, holds, let_go, read_held, write_held
 from leadnames.house import House
 from leadnames.making import drop, look, make_file, make_folder, make_lead, name_file, read, set_rights, write
 from leadnames.moving import move
@@ -18,12 +19,15 @@ MOSTLY_OPEN = ("lgw",) * 12 + ("gw", "lg", "lw", "g", "")
 
 DEEDS = {deed.__name__: deed for deed in (
     make_folder, make_file, make_lead, name_file, drop, set_rights, read, write, look, move, make_tree, hang, take,
-    stand, set_root)}
+    stand, set_root, hold)}
+
+# In these no asker is asked.
+HELD_DEEDS = {deed.__name__: deed for deed in (read_held, write_held, let_go)}
 
 # Some are drawn more often, so that there is something in the house to walk by.
 DRAWN = ["make_folder"] * 20 + ["make_file"] * 7 + ["make_lead"] * 8 + ["name_file"] * 8 + ["drop"] * 7 \
     + ["set_rights"] * 4 + ["read", "write", "look"] * 2 + ["move"] * 16 + ["make_tree"] * 2 + ["hang"] * 12 \
-    + ["take"] * 4 + ["stand"] * 5 + ["set_root"]
+    + ["take"] * 4 + ["stand"] * 5 + ["set_root"] + ["hold"] * 3 + ["read_held", "write_held", "let_go"]
 
 
 def drawn_path(lot, most):
@@ -66,6 +70,10 @@ def some_tree(lot):
     return lot.choice(("none", None, "Main")) if lot.random() < 0.01 else lot.choice(TREES * 3 + ("main",))
 
 
+def some_hold(lot, house):
+    return lot.choice((0, 1, 7, None, True)) if lot.random() < 0.1 else lot.choice(holds(house) or [0])
+
+
 def drawn_handed(lot, house, deed, asker):
     """What is handed in behind the house and the asker."""
     path, seat = some_path(lot, house, asker), some_seat(lot, house, asker)
@@ -88,6 +96,12 @@ def drawn_handed(lot, house, deed, asker):
         return (some_tree(lot),)
     if deed == "hang":
         return (some_tree(lot), some_path(lot, house, asker, ("folder",)))
+    if deed == "hold":
+        return (some_path(lot, house, asker, ("file",)), some_rights(lot))
+    if deed in ("read_held", "let_go"):
+        return (some_hold(lot, house),)
+    if deed == "write_held":
+        return (some_hold(lot, house), some_text(lot))
     return (path,)
 
 
@@ -99,6 +113,8 @@ def drawn_deed(lot, house):
 
 
 def do_deed(house, deed, asker, handed):
+    if deed in HELD_DEEDS:
+        return outcome(HELD_DEEDS[deed], house, *handed)
     return outcome(DEEDS[deed], house, asker, *handed)
 
 

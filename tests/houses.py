@@ -3,6 +3,7 @@
 import unittest
 
 from leadnames.errors import LeadError, NoDeed, NoWay
+from leadnames.holding import holds, rights_held, thing_held
 from leadnames.house import House
 from leadnames.walks import Failed, Found, Ring
 
@@ -58,7 +59,7 @@ def nested_house():
 
 
 def picture(house):
-    """All that a house tells, under one key for each thing, asker and tree."""
+    """All that a house tells, under one key for each thing, asker, tree and hold."""
     told = {"many": house.many(), "askers": house.askers(), "trees": house.trees()}
     for asker in house.askers():
         told["root", asker] = house.root_of(asker)
@@ -70,6 +71,9 @@ def picture(house):
                                  house.text_of(number))
         told["places", number] = house.places_of(number)
         told["names", number] = {name: house.child(number, name) for name in house.names_in(number)}
+    told["holds"] = holds(house)
+    for number in holds(house):
+        told["hold", number] = (thing_held(house, number), rights_held(house, number))
     return told
 
 

@@ -137,7 +137,7 @@ def lies_beneath(house, number, other):
     return number == other or (place is not None and lies_beneath(house, place[0], other))
 
 
-# Points 3 and 21 to 27, word by word.
+# Points 3 and 21 to 30, word by word.
 
 EIGHT = ("", "l", "g", "w", "lg", "lw", "gw", "lgw")
 
@@ -170,7 +170,7 @@ class SpelledDeed:
         self.house, self.asker = house, asker
         self.after = copy.deepcopy(picture(house))
         try:
-            need(asker in house.askers(), "NoAsker")
+            need(asker in house.askers() or deed in ("read_held", "write_held", "let_go"), "NoAsker")
             self.outcome = ("told", getattr(self, deed)(*handed))
         except Refusal as refusal:
             self.outcome = refusal.outcome
@@ -379,3 +379,71 @@ class SpelledDeed:
     def set_root(self, path):
         self.stand(path)
         self.after["root", self.asker] = self.after["standing", self.asker]
+
+    def hold(self, path, rights):
+        self.paths(path)
+        self.rights(rights)
+        number = self.walked(path)
+        need(self.kind(number) == "file", ("NoDeed", "folder"))
+        need("l" not in rights or self.can(number, "l"), ("NoDeed", "look"))
+        need("w" not in rights or self.can(number, "w"), ("NoDeed", "write"))
+        given = self.house.holds_given
+        self.after["holds"] = self.after["holds"] + [given]
+        self.after["hold", given] = (number, rights)
+        return given
+
+    def held(self, number):
+        need(type(number) is int and number in self.after["holds"], "NoHold")
+        return self.after["hold", number]
+
+    def read_held(self, number):
+        thing, rights = self.held(number)
+        need("l" in rights, ("NoDeed", "look"))
+        return self.house.text_of(thing)
+
+    def write_held(self, number, text):
+        thing, rights = self.held(number)
+        self.text(text)
+        need("w" in rights, ("NoDeed", "write"))
+        kind, owner, known, former = self.after["thing", thing]
+        self.after["thing", thing] = (kind, owner, known, text)
+
+    def let_go(self, number):
+        self.held(number)
+        self.after["holds"].remove(number)
+        self.after.pop(("hold", number))
+
+
+# Point 31, word by word.
+
+def spelled_state(house, number):
+    if number in [house.tree_root(tree) for tree in house.trees()] or house.places_of(number):
+        return "named"
+    told = picture(house)
+    if any(told["hold", held][0] == number for held in told["holds"]):
+        return "held"
+    if any(number in (house.root_of(asker), house.standing_of(asker)) for asker in house.askers()):
+        return "held"
+    return "gone"
+
+
+# Point 36, word by word.
+
+def spelled_show(house):
+    told, rows = picture(house), []
+    for asker in told["askers"]:
+        rows.append(["asker", asker, told["root", asker], told["standing", asker]])
+    for tree in told["trees"]:
+        root, covered = told["tree", tree]
+        rows.append(["tree", tree, root, "-" if covered is None else covered])
+    for number in range(told["many"]):
+        kind, owner, (mine, rest), text = told["thing", number]
+        rights = [] if kind == "lead" else [mine or "-", rest or "-"]
+        rows.append([kind, number, owner] + rights + ([] if kind == "folder" else [text]))
+    for number in range(told["many"]):
+        for name in sorted(told["names", number]):
+            rows.append(["name", number, name, told["names", number][name]])
+    for number in sorted(told["holds"]):
+        thing, rights = told["hold", number]
+        rows.append(["hold", number, thing, rights or "-"])
+    return "\n".join(" ".join(str(word) for word in row) for row in rows)

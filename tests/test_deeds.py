@@ -1,14 +1,17 @@
-"""Deeds drawn by lot: each held to a second telling of points 3 and 21 to 27, and the house behind it to point 4."""
+"""Deeds drawn by lot: each held to a second telling of points 3 and 21 to 30, and the house behind it to point 4."""
 
 import random
 import unittest
 
 from drawn import ASKERS, begun_house, do_deed, drawn_deed, drawn_path, folders_of, known_path
 from houses import changed, picture, shown
+from leadnames.holding import state_of
 from leadnames.places import is_seen
+from leadnames.shows import shown as shown_house
 from leadnames.walks import Found, asked_of, walk
 from leadnames.words import parts_of
-from spelled import SpelledDeed, SpelledWalk, lies_beneath, spelled_base, spelled_tree
+from spelled import (SpelledDeed, SpelledWalk, lies_beneath, spelled_base, spelled_show, spelled_state,
+                     spelled_tree)
 
 SEEDS = range(1000, 1060)
 MANY = 120
@@ -44,7 +47,7 @@ class AsSpelled(unittest.TestCase):
         for reason in ("dots", "kept", "there", "folder", "other", "none", "busy", "full", "mine", "look", "write",
                        "file", "ring", "hung", "free"):
             self.assertGreater(seen.get(("NoDeed", reason), 0), 1, reason)
-        for sort in ("NoAsker", "NoPath", "NoRights", "NoText", "NoTree", ("NoWay", ""), ("told", "")):
+        for sort in ("NoAsker", "NoPath", "NoRights", "NoText", "NoTree", "NoHold", ("NoWay", ""), ("told", "")):
             self.assertGreater(seen.get(sort, 0), 1, sort)
 
     def test_each_walk_between_deeds(self):
@@ -98,6 +101,10 @@ class Houses(unittest.TestCase):
                 self.assertEqual(house.kind_of(number), "folder")
             self.assertIn(spelled_tree(house, house.root_of(asker)), house.trees())
 
+    def check_states(self, house):
+        for number in range(house.many()):
+            self.assertEqual(state_of(house, number), spelled_state(house, number))
+
     def test_as_they_may_be(self):
         for at, house, drawn in each_deed(SEEDS, MANY):
             if type(do_deed(house, *drawn)) is tuple:
@@ -106,6 +113,8 @@ class Houses(unittest.TestCase):
                     self.check_trees(house)
                     self.check_no_ring(house)
                     self.check_roots(house)
+                    self.check_states(house)
+                    self.assertEqual(shown_house(house), spelled_show(house))
 
 
 class BehindShutFolders(unittest.TestCase):

@@ -207,6 +207,73 @@ class Language(unittest.TestCase):
             self.assertIsNone(getattr(node, "annotation", None), self.where(path, node, "L21"))
             self.assertIsNone(getattr(node, "returns", None), self.where(path, node, "L21"))
 
+    def test_statements_that_stand_alone_are_calls(self):
+        for path, tree in trees():
+            told = [node for node in ast.walk(tree) if isinstance(node, ast.Expr) and node is not tree.body[0]]
+            for node in told:
+                self.assertIsInstance(node.value, ast.Call, self.where(path, node, "L6"))
+
+    def is_plain(self, node, functions):
+        if isinstance(node, (ast.List, ast.Tuple)):
+            return all(self.is_plain(one, functions) for one in node.elts)
+        if isinstance(node, ast.Dict):
+            return all(self.is_plain(one, functions) for one in node.keys + node.values)
+        return isinstance(node, ast.Constant) or (isinstance(node, ast.Name) and node.id in functions)
+
+    def test_the_top_of_a_module(self):
+        for path, tree in trees():
+            functions = []
+            for node in tree.body[1:]:
+                self.assertIsInstance(node, (ast.ImportFrom, ast.FunctionDef, ast.ClassDef, ast.Assign), path)
+                if isinstance(node, ast.FunctionDef):
+                    functions.append(node.name)
+                if isinstance(node, ast.Assign):
+                    self.assertTrue(self.is_plain(node.value, functions), self.where(path, node, "L3"))
+                    if isinstance(node.value, (ast.List, ast.Dict)):
+                        inner = [one for one in ast.walk(node.value) if isinstance(one, (ast.List, ast.Dict))]
+                        self.assertEqual(len(inner), 1, self.where(path, node, "L15"))
+
+    def test_what_is_kept_at_the_top_is_only_read(self):
+        for path, tree in trees():
+            kept = [node.targets[0].id for node in tree.body
+                    if isinstance(node, ast.Assign) and isinstance(node.value, (ast.List, ast.Dict))]
+            read = [node.value for node in ast.walk(tree) if isinstance(node, ast.Subscript)]
+            asked = [right for node in ast.walk(tree) if isinstance(node, ast.Compare) for right in node.comparators]
+            for node in ast.walk(tree):
+                if isinstance(node, ast.Name) and node.id in kept and isinstance(node.ctx, ast.Load):
+                    self.assertIn(node, read + asked, self.where(path, node, "L15"))
+
+    def test_keywords(self):
+        allowed = {"sorted": {"key", "reverse"}, "min": {"key", "default"}, "max": {"key", "default"}, "sum": {"start"},
+                   "enumerate": {"start"}, "zip": {"strict"}}
+        for path, node in all_nodes():
+            if isinstance(node, ast.Call) and isinstance(node.func, ast.Name) and node.func.id in vars(builtins):
+                names = {keyword.arg for keyword in node.keywords}
+                self.assertLessEqual(names, allowed.get(node.func.id, set()), self.where(path, node, "L22"))
+            if isinstance(node, ast.Call) and isinstance(node.func, ast.Attribute) and node.func.attr in OWN_METHODS:
+                self.assertEqual(node.keywords, [], self.where(path, node, "L22"))
+
+    def test_walked_at_once(self):
+        walkers = ("list", "tuple", "dict", "sorted", "sum", "any", "all", "enumerate", "zip", "min", "max")
+        for path, tree in trees():
+            at_once = []
+            for node in ast.walk(tree):
+                if isinstance(node, (ast.For, ast.comprehension)):
+                    at_once.append(node.iter)
+                if isinstance(node, ast.Call) and isinstance(node.func, ast.Name) and node.func.id in walkers:
+                    at_once.extend(node.args[:1])
+            for node in ast.walk(tree):
+                if isinstance(node, ast.Call):
+                    name = getattr(node.func, "id", None) or "." + getattr(node.func, "attr", "")
+                    if name in ("zip", "enumerate", "reversed", "range", ".items", ".keys", ".values"):
+                        self.assertIn(node, at_once, self.where(path, node, "L23"))
+                    self.assertNotIn(name, ("set", "frozenset", "chr"), self.where(path, node, "L24, L27"))
+
+    def test_errors_are_raised_on_the_spot(self):
+        for path, node in all_nodes():
+            if isinstance(node, ast.Raise):
+                self.assertIsInstance(node.exc, ast.Call, self.where(path, node, "L19"))
+
     def test_is(self):
         for path, node in all_nodes():
             if isinstance(node, ast.Compare):
